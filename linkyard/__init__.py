@@ -1,0 +1,1 @@
+"""Linkyard: parts of programs, put together and run anywhere."""
