@@ -241,7 +241,7 @@ class Checker:
             self.need(node.id in OWN_NAMES, "L8", node, node.id)
         elif node.id in self.tables:
             self.see_table(node)
-        elif node.id in self.classes:
+        elif node.id in self.classes or node.id in self.imported and re.match("[A-Z].*[a-z]", node.id):
             self.see_class_name(node)
 
     def see_table(self, node):
@@ -371,6 +371,7 @@ BROKEN = [
     ("L15", "x = [1]\n\n\ndef f():\n    return x"), ("L15", "x = [1]\n\n\ndef f():\n    x.append(2)"),
     ("L15", "x = [1]\n\n\ndef f():\n    x[0] = 2"), ("L15", "x = [1]\n\n\ndef f():\n    f(x)"),
     ("L17", "# the type of it"), ("L17", "def f(a):\n    a.register()"), ("L17", "x = 'a Protocol'"),
+    ("L18", "from linkyard.parts import Part\n\n\ndef f():\n    return [Part]"),
     ("L18", "class A:\n    pass\n\n\nx = [A]"), ("L18", "class A:\n    pass\n\n\ndef f():\n    A.b = 1"),
     ("L19", "def f():\n    try:\n        f()\n    except Exception:\n        pass"),
     ("L19", "def f():\n    raise ValueError"), ("L20", "def f(a, b):\n    return a is b"),
