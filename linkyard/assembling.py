@@ -1,13 +1,10 @@
 """Rows of words, assembled to a part."""
 
 from linkyard.errors import Lacking, TooFar
-from linkyard.ops import is_near, near_byte
+from linkyard.ops import TO_LABELS, is_near, near_byte
 from linkyard.parts import Part
 from linkyard.taking import taken
 from linkyard.words import two_of
-
-# Their goals are labels of their own section; the goals of all others are sections.
-TO_LABELS = ("go", "ifnot")
 
 
 def offsets_of(section):

@@ -12,6 +12,10 @@ OPS = {
     64: ("go", 2, "near"), 65: ("ifnot", 2, "near"), 66: ("hop", 2, "near"),
     80: ("call", 3, "far"), 81: ("take", 3, "far"), 82: ("put", 3, "far"),
 }
+# One of these ends a code, so that no run goes on behind it.
+LAST_WORDS = ("go", "back", "stop")
+# Their goals are labels of their own section; the goals of all others are sections.
+TO_LABELS = ("go", "ifnot")
 
 
 def byte_of(word):

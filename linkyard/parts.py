@@ -1,5 +1,11 @@
 """A part: sections of bytes, what it wants, and the places where goals are to be filled in."""
 
+MOST_ROWS = 600
+MOST_SECTIONS = 100
+MOST_WANTS = 100
+MOST_WORDS = 32
+MOST_CODE = 250
+
 
 class Part:
     """A part; its fields are only read."""

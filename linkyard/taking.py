@@ -1,15 +1,9 @@
 """A part's text, taken row by row to a draft; what its goals lead to is looked at behind it."""
 
 from linkyard.errors import BadRow, BadText, Twice
-from linkyard.ops import op_in
+from linkyard.ops import LAST_WORDS, op_in
+from linkyard.parts import MOST_CODE, MOST_ROWS, MOST_SECTIONS, MOST_WANTS, MOST_WORDS
 from linkyard.words import is_name, number_in
-
-MOST_ROWS = 600
-MOST_SECTIONS = 100
-MOST_WANTS = 100
-MOST_WORDS = 32
-MOST_CODE = 250
-LAST_WORDS = ("go", "back", "stop")
 
 
 class Section:
