@@ -1,6 +1,8 @@
 """Where the sections of parts are laid, and the image that comes of it."""
 
-KINDS_AS_LAID = ("code", "data")
+from linkyard.parts import KINDS
+
+MOST_BYTES = 8000
 
 
 class Image:
@@ -21,7 +23,7 @@ def laid(parts):
     """The sections as they are laid: part, name, kind, place and size of each."""
     told = []
     place = 0
-    for kind in KINDS_AS_LAID:
+    for kind in KINDS:
         for part in by_names(parts):
             for section in part.sections:
                 if section[0] == kind:

@@ -2,11 +2,9 @@
 
 from linkyard.errors import TooFar, TooGreat
 from linkyard.joining import goal_of, need_joined, need_kind
-from linkyard.layout import Image, by_names, laid, sections_by_names, shared_of
+from linkyard.layout import MOST_BYTES, Image, by_names, laid, sections_by_names, shared_of
 from linkyard.ops import is_near, near_byte
 from linkyard.words import two_of
-
-MOST_BYTES = 8000
 
 
 def body_of(parts):

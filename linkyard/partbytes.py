@@ -1,14 +1,12 @@
 """A part, written as a row of bytes and read from one."""
 
 from linkyard.checks import opened, sealed
-from linkyard.errors import BadBytes
 from linkyard.ops import LAST_WORDS, TO_LABELS, near_goal, starts_in, way_at, word_at
-from linkyard.parts import MOST_CODE, MOST_ROWS, MOST_SECTIONS, MOST_WANTS, MOST_WORDS, Part
-from linkyard.readers import Reader
+from linkyard.parts import KINDS, MOST_CODE, MOST_ROWS, MOST_SECTIONS, MOST_WANTS, MOST_WORDS, Part
+from linkyard.readers import Reader, need
 from linkyard.words import FIGURES, LETTERS, is_name, two_of, word_in
 
 MARK = (109, 1)
-KINDS = ("code", "data")
 WAYS = ("near", "far")
 FIRST_FIGURE = 48
 FIRST_LETTER = 97
@@ -40,11 +38,6 @@ def part_bytes(part):
     for place in part.places:
         row.extend(place_written(place))
     return sealed(row)
-
-
-def need(good, words):
-    if not good:
-        raise BadBytes(words)
 
 
 def sign_of(number):

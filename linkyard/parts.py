@@ -1,5 +1,7 @@
 """A part: sections of bytes, what it wants, and the places where goals are to be filled in."""
 
+# Codes are laid ahead of data, and each kind is written as its number here.
+KINDS = ("code", "data")
 MOST_ROWS = 600
 MOST_SECTIONS = 100
 MOST_WANTS = 100

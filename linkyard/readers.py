@@ -4,6 +4,12 @@ from linkyard.errors import BadBytes
 from linkyard.words import word_in
 
 
+def need(good, words):
+    """What isn't written as it must be is refused with these words."""
+    if not good:
+        raise BadBytes(words)
+
+
 class Reader:
     """A row of bytes and how much of it was read."""
 
@@ -14,8 +20,7 @@ class Reader:
     def several(self, size):
         """The next bytes, so many of them."""
         behind = self.spot + size
-        if behind > len(self.content):
-            raise BadBytes("the row ends too early")
+        need(behind <= len(self.content), "the row ends too early")
         read = self.content[self.spot:behind]
         self.spot = behind
         return read
@@ -28,9 +33,7 @@ class Reader:
 
     def need_mark(self, mark):
         """What a row begins with tells what is written in it."""
-        if self.several(len(mark)) != list(mark):
-            raise BadBytes("the row begins otherwise")
+        need(self.several(len(mark)) == list(mark), "the row begins otherwise")
 
     def need_end(self):
-        if self.spot != len(self.content):
-            raise BadBytes("the row ends too late")
+        need(self.spot == len(self.content), "the row ends too late")

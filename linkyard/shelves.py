@@ -12,22 +12,22 @@ class Shelf:
     """Parts of unlike names."""
 
     def __init__(self):
-        self.kept = {}
+        self.stock = {}
 
     def put(self, row):
         """Puts the part of a row of bytes there."""
         part = part_in(row)
-        if part.name in self.kept:
+        if part.name in self.stock:
             raise Twice(part.name, 1, part.name)
-        self.kept[part.name] = part
+        self.stock[part.name] = part
 
     def names(self):
         """The names of the parts, rising."""
-        return sorted(self.kept)
+        return sorted(self.stock)
 
     def sharing(self, name):
         """The parts that share a name, by their names."""
-        return [self.kept[own] for own in self.names() if name in self.kept[own].names()]
+        return [self.stock[own] for own in self.names() if name in self.stock[own].names()]
 
 
 def found_sharing(shelves, name):
