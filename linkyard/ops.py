@@ -90,8 +90,8 @@ class Push(Op):
         return [byte_of("push")] + two_of(self.number)
 
 
-class Near(Op):
-    """An operation that tells in one byte how far its goal is."""
+class Aimed(Op):
+    """An operation with a goal; the two kinds below are made, this one never alone."""
 
     def __init__(self, word, goal):
         self.spelled = word
@@ -102,6 +102,13 @@ class Near(Op):
 
     def row(self):
         return self.spelled + " " + self.aim
+
+    def goal(self):
+        return self.aim
+
+
+class Near(Aimed):
+    """Tells in one byte how far its goal is."""
 
     def told(self):
         return [byte_of(self.spelled), 0]
@@ -109,31 +116,15 @@ class Near(Op):
     def way(self):
         return "near"
 
-    def goal(self):
-        return self.aim
 
-
-class Far(Op):
-    """An operation that tells in two bytes where its goal is."""
-
-    def __init__(self, word, goal):
-        self.spelled = word
-        self.aim = goal
-
-    def word(self):
-        return self.spelled
-
-    def row(self):
-        return self.spelled + " " + self.aim
+class Far(Aimed):
+    """Tells in two bytes where its goal is."""
 
     def told(self):
         return [byte_of(self.spelled), 0, 0]
 
     def way(self):
         return "far"
-
-    def goal(self):
-        return self.aim
 
 
 def op_with_number(word, number):

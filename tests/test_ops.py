@@ -59,9 +59,10 @@ class TheOperations(unittest.TestCase):
             for word in FAR:
                 self.assertEqual(all_of(Far(word, goal)), expected_far(word, goal))
 
-    def test_all_stand_straight_under_op(self):
-        for kind in [Alone, Small, Push, Near, Far]:
-            self.assertEqual(kind.__bases__, (Op,))
+    def test_all_stand_under_op_and_none_under_another(self):
+        kinds = [Alone, Small, Push, Near, Far]
+        for kind in kinds:
+            self.assertEqual([other for other in kinds + [Op] if issubclass(kind, other)], [kind, Op])
 
     def test_a_told_list_may_be_changed(self):
         for op in [Alone("add"), Small(7), Push(513), Near("hop", "a"), Far("call", "b")]:
