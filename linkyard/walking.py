@@ -6,7 +6,7 @@ from linkyard.joining import goal_of, need_joined, need_kinds
 from linkyard.layout import shared_of
 from linkyard.ops import TO_LABELS, Push, Small
 
-# The first operation of a code is gone to by call and hop.
+# A call or a hop goes to the first operation of a code.
 FIRST = 0
 
 

@@ -96,6 +96,23 @@ class Operations(unittest.TestCase):
         image = main_of("small 5", "at l", "dup", "tell", "small 1", "sub", "dup", "ifnot m", "go l", "at m", "stop")
         self.assertEqual(run(image), ([5, 4, 3, 2, 1], "stop", 1 + 5 * 6 + 4 + 1))
 
+    def test_reaches_at_their_bounds(self):
+        tell = ["small 3", "tell", "stop"]
+        ahead = ["push 1"] * 42 + ["add"]
+        self.assertEqual(run(main_of("go l", *ahead, "at l", *tell)), ([3], "stop", 4))
+        self.assertEqual(run(main_of("small 0", "ifnot l", *ahead, "at l", *tell)), ([3], "stop", 5))
+        back = ["push 1"] * 40 + ["add", "add"]
+        self.assertEqual(run(main_of("go s", "at l", *tell, *back, "at s", "go l")), ([3], "stop", 5))
+        self.assertEqual(run(main_of("go s", "at l", *tell, *back[2:], "push 1", "add", "at s", "small 0", "ifnot l",
+                                     "stop")), ([3], "stop", 6))
+        between = ["code c", *["push 1"] * 41, "add", "add", "stop", "code z"]
+        self.assertEqual(main_of("hop z", "stop", more=between + tell).body[1], 127)
+        self.assertEqual(run(main_of("hop z", "stop", more=between + tell)), ([3], "stop", 4))
+        between = ["code y", *tell, "code c", *["push 1"] * 39, *["add"] * 4, "stop", "code z", "hop y", "stop"]
+        image = main_of("call z", "stop", more=between)
+        self.assertEqual(image.body[-2], 128)
+        self.assertEqual(run(image), ([3], "stop", 5))
+
     def test_hop_call_and_back(self):
         text = rows("part a", "shared main", "code one", "small 1", "tell", "back", "code main", "call one", "small 2",
                     "tell", "call two", "small 3", "tell", "hop one", "small 4", "tell", "stop", "code two", "call one",
@@ -229,7 +246,12 @@ class Ends(unittest.TestCase):
         image = main_of("at l", "go l")
         self.assertEqual(run(image), ([], "dry", 1000))
         self.assertEqual(run(image, most=5000), ([], "dry", 5000))
-        self.assertEqual(Machine(image, most=5000).steps(), 0)
+        machine = Machine(image)
+        for turn in range(1000):
+            self.assertIs(machine.step(), True)
+            self.assertIsNone(machine.end())
+        self.assertIs(machine.step(), True)
+        self.assertEqual((machine.end(), machine.steps(), machine.step()), ("dry", 1000, False))
 
 
 class StepByStep(unittest.TestCase):

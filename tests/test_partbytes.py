@@ -113,6 +113,8 @@ def big_texts():
     yield rows("part p", *["# ahead"] * 595, "code c", "hop c", "call c", "stop")
     yield rows("part p", "wants w", "code c", *["call w"] * 83, "stop")
     yield rows("part p", "shared c", "code c", "at l", *["add"] * 126, "go l", *["add"] * 121, "stop")
+    yield rows("part p", "code c", "go l", *["add"] * 127, "at l", "stop")
+    yield rows("part p", "code c", "ifnot l", *["add"] * 127, "at l", "stop")
 
 
 class ReadAgain(unittest.TestCase):
