@@ -4,10 +4,12 @@ from linkyard.errors import BadInput
 from linkyard.words import MOST_WORD, is_number_up_to, is_word
 
 MOST_STACK = 32
-MOST_CALLS = 16
+MOST_WAITING = 16
 MOST_INPUTS = 100
 MOST_STEPS = 5000
 MOST_SHIFT = 15
+# A hop is a call by a near goal, so back goes on behind either.
+CALLS = ("hop", "call")
 # How many words an operation takes off the stack, and how many it puts there; all others none.
 TAKES = {"add": 2, "sub": 2, "mul": 2, "and": 2, "or": 2, "xor": 2, "left": 2, "right": 2, "less": 2, "same": 2,
          "not": 1, "dup": 1, "drop": 1, "swap": 2, "tell": 1, "ifnot": 1, "take": 1, "put": 2}
@@ -126,7 +128,7 @@ class Doing:
             return "none"
         if word in ("take", "put") and self.pile[size - TAKES[word]] >= self.ground.room(named):
             return "beyond"
-        if word == "call" and len(self.waiting) == MOST_CALLS:
+        if word in CALLS and len(self.waiting) == MOST_WAITING:
             return "deep"
         return None
 
@@ -161,9 +163,9 @@ class Doing:
         """Where the run goes on behind an operation."""
         if word == "back":
             return self.waiting.pop()
-        if word == "call":
+        if word in CALLS:
             self.waiting.append(behind)
-        if word in ("go", "hop", "call") or (word == "ifnot" and words[0] == 0):
+        if word == "go" or word in CALLS or (word == "ifnot" and words[0] == 0):
             return named
         return behind
 

@@ -37,9 +37,8 @@ def is_text(thing):
 
 
 def need_rows(text):
-    # The empty text has no row at all, so it isn't taken for one row without words.
-    if not is_text(text) or text == "":
-        raise BadText("a part is told by a text of one row at least")
+    if not is_text(text):
+        raise BadText("a part is told by a text")
     rows = text.split("\n")
     if len(rows) > MOST_ROWS:
         raise BadText("a part has at most 600 rows")

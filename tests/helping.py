@@ -158,10 +158,9 @@ class Plain:
         elif word == "back":
             self.section, self.row = self.waiting.pop()
         else:
-            if word == "call":
-                if len(self.waiting) == 16:
-                    return "deep"
-                self.waiting.append((self.section, self.row))
+            if len(self.waiting) == 16:
+                return "deep"
+            self.waiting.append((self.section, self.row))
             self.section, self.row = self.goals[self.section[0], named], 0
 
 

@@ -203,15 +203,14 @@ class Refusals(unittest.TestCase):
                          rows("part" + sign + "a", "code c", "stop"), rows("part a", "code c", "stop" + sign)]:
                 self.assertEqual(refusal_of(assembled, text), ("BadText",), repr(text))
 
-    def test_no_rows_and_601(self):
-        self.assertEqual(refusal_of(assembled, ""), ("BadText",))
+    def test_601_rows(self):
         self.assertEqual(refusal_of(assembled, rows(*SMALLEST) + "\n" * 598), ("BadText",))
         self.assertEqual(refusal_of(assembled, "\n" * 600), ("BadText",))
         self.assertEqual(refusal_of(assembled, "nothing\n" * 600), ("BadText",))
         self.assertEqual(refusal_of(assembled, "\n" * 20000), ("BadText",))
 
     def test_no_part(self):
-        for text, row in [(" ", 1), ("#", 1), ("# part a", 1), ("\n", 2), ("\n\n#\n", 4), ("\n" * 599, 600)]:
+        for text, row in [("", 1), (" ", 1), ("#", 1), ("# part a", 1), ("\n", 2), ("\n\n#\n", 4), ("\n" * 599, 600)]:
             self.assertEqual(refusal_of(assembled, text), ("BadRow", "", row), repr(text))
 
     def test_no_section(self):

@@ -29,6 +29,14 @@ def pushes(words):
     return ["push %d" % word for word in words]
 
 
+def one_below_the_other(words):
+    """Codes each of which goes to the next one by one of these words; the last one tells 9."""
+    told = ["part a", "shared main", "code main"]
+    for number, word in enumerate(words):
+        told += ["%s c%d" % (word, number), "back", "code c%d" % number]
+    return rows(*told, "small 9", "tell", "back")
+
+
 def state(machine):
     return (machine.stack(), machine.told(), machine.steps(), machine.end())
 
@@ -116,8 +124,26 @@ class Operations(unittest.TestCase):
     def test_hop_call_and_back(self):
         text = rows("part a", "shared main", "code one", "small 1", "tell", "back", "code main", "call one", "small 2",
                     "tell", "call two", "small 3", "tell", "hop one", "small 4", "tell", "stop", "code two", "call one",
-                    "hop one", "stop")
-        self.assertEqual(run(image_of(text)), ([1, 2, 1, 1, 3, 1], "stop", 21))
+                    "hop one", "back")
+        self.assertEqual(run(image_of(text)), ([1, 2, 1, 1, 3, 1, 4], "stop", 25))
+
+    def test_back_goes_on_behind_a_hop(self):
+        text = rows("part a", "shared main", "code main", "hop low", "small 8", "tell", "stop", "code low", "small 7",
+                    "tell", "back")
+        for base in [0, 1, 300, 65000]:
+            self.assertEqual(run(image_of(text), base), ([7, 8], "stop", 7))
+        self.assertEqual(run(image_of(text.replace("hop", "call"))), ([7, 8], "stop", 7))
+
+    def test_back_goes_on_behind_the_one_that_waits_last(self):
+        for first, second in itertools.product(["hop", "call"], repeat=2):
+            text = rows("part a", "shared main", "code main", first + " low", "small 1", "tell", "back", "code low",
+                        second + " deep", "small 2", "tell", "back", "code deep", "small 3", "tell", "back")
+            self.assertEqual(run(image_of(text), 4660), ([3, 2, 1], "stop", 11), (first, second))
+
+    def test_a_hop_to_a_code_that_lies_ahead(self):
+        text = rows("part a", "shared main", "code low", "small 7", "tell", "back", "code main", "hop low", "hop low",
+                    "back")
+        self.assertEqual(run(image_of(text), 300), ([7, 7], "stop", 9))
 
     def test_take_and_put(self):
         data = ("data d", "word 10", "word 20", "word 65535", "data e", "word 7")
@@ -220,13 +246,27 @@ class Ends(unittest.TestCase):
         self.assertEqual(at_the_end(image, 0, [16]), ([0], [], 2 + 5 * 16, "deep"))
         self.assertEqual(run(image, 0, [17]), ([], "deep", 2 + 5 * 16))
 
-    def test_hops_do_not_wait(self):
-        text = rows("part a", "shared main", "code main", "hop c", "stop", "code c", "hop main", "stop")
-        self.assertEqual(run(image_of(text), 0, None, 100), ([], "dry", 100))
+    def test_hops_wait_as_calls_do(self):
+        text = rows("part a", "shared main", "code main", "hop c", "stop", "code c", "call main", "stop")
+        for told in [text, text.replace("call", "hop"), text.replace("hop", "call")]:
+            self.assertEqual(run(image_of(told)), ([], "deep", 17))
+            self.assertEqual(run(image_of(told), 2126, [1], 17), ([], "deep", 17))
+            self.assertEqual(run(image_of(told), 0, None, 16), ([], "dry", 16))
 
-    def test_calls_that_came_back_do_not_wait(self):
-        text = rows("part a", "shared main", "code main", *["call c"] * 40, "stop", "code c", "back")
-        self.assertEqual(run(image_of(text)), ([], "stop", 81))
+    def test_16_of_either_kind_wait_and_a_seventeenth_does_not(self):
+        for words in [["hop"] * 16, ["call"] * 16, ["hop", "call"] * 8, ["call"] * 15 + ["hop"], ["hop"] * 15 + ["call"]]:
+            self.assertEqual(run(image_of(one_below_the_other(words))), ([9], "stop", 16 + 3 + 16), words)
+            for word in ["hop", "call"]:
+                self.assertEqual(run(image_of(one_below_the_other(words + [word]))), ([], "deep", 17), (words, word))
+
+    def test_a_hop_that_is_deep_changes_nothing_else(self):
+        told = at_the_end(main_of("small 5", "hop main", "stop"))
+        self.assertEqual(told, ([5] * 17, [], 34, "deep"))
+
+    def test_those_that_came_back_do_not_wait(self):
+        for word in ["call", "hop"]:
+            text = rows("part a", "shared main", "code main", *[word + " c"] * 40, "stop", "code c", "back")
+            self.assertEqual(run(image_of(text)), ([], "stop", 81), word)
 
     def test_dry(self):
         image = main_of("small 1", "tell", "small 2", "tell", "stop")

@@ -58,7 +58,8 @@ class GoodLines(unittest.TestCase):
                            ("run x1234 x00ff 5", "none 7 255 5"), ("run 65532 1", "none 4 1"),
                            ("run x0000 x0000", "none 4 0"), ("run 0 " + " ".join(["9"] * 100), "none 301" + " 9" * 100)]:
             self.assertEqual(play(begin + [line])[2], told, line[:40])
-        self.assertEqual(play(["put part a ; shared main ; code main ; hop main ; stop", "link", "run 0"])[2], "dry 1000")
+        self.assertEqual(play(["put part a ; shared main ; code main ; at l ; go l", "link", "run 0"])[2], "dry 1000")
+        self.assertEqual(play(["put part a ; shared main ; code main ; hop main ; stop", "link", "run 0"])[2], "deep 17")
 
     def test_rows_between_their_signs(self):
         for line in ["put " + ALONE, "put  part  alone" + ALONE[len("part alone"):],
@@ -122,9 +123,14 @@ class Refusals(unittest.TestCase):
                                "put part a ; code c ; stop ; code c ; stop", "put part a ; code c ; call d ; stop",
                                "put part a ; code c ; go l" + " ; push 1" * 50 + " ; at l ; stop",
                                "shelve part a ; shared x ; code c ; stop", "parts"]),
-                         ["refused badtext", "refused badtext", "refused badtext", "refused badrow - 1",
+                         ["refused badrow - 1", "refused badrow - 1", "refused badtext", "refused badrow - 1",
                           "refused badrow - 1", "refused badrow a 1", "refused twice a 4 c", "refused lacking a 3 d",
                           "refused toofar a 3 l", "refused lacking a 2 x", ""])
+
+    def test_of_rows_without_words(self):
+        self.assertEqual(play(["put ", "put  ", "put  ; ", "shelve ", "shelve #", "shelve  ;  ; ", "put", "shelve"]),
+                         ["refused badrow - 1", "refused badrow - 1", "refused badrow - 2", "refused badrow - 1",
+                          "refused badrow - 1", "refused badrow - 3", "refused badline", "refused badline"])
 
     def test_of_shelves_and_names(self):
         self.assertEqual(play(["shelve " + TWICE, "shelve " + TWICE, "take math", "take one", "take part"]),

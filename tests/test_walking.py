@@ -25,7 +25,9 @@ EVERY_END = [
     (main_of("at l", "small 1", "go l"), "full"), (main_of("small 1", "at l", "dup", "go l"), "full"),
     (main_of("at l", "ask", "tell", "go l"), "none"), (main_of("small 2", "take d", "stop", more=DATA), "beyond"),
     (main_of("small 2", "small 1", "put d", "stop", more=DATA), "beyond"), (main_of("call main", "stop"), "deep"),
-    (main_of("hop main", "stop"), "dry"), (main_of("at l", "go l"), "dry")]
+    (main_of("hop main", "stop"), "deep"), (main_of("hop c", "stop", more=("code c", "call main", "stop")), "deep"),
+    (main_of("hop c", "stop", more=("code c", "back")), "stop"), (main_of("at l", "go l"), "dry"),
+    (main_of("at l", "hop c", "go l", more=("code c", "back")), "dry")]
 
 
 class TheSameAsRun(unittest.TestCase):
@@ -84,12 +86,32 @@ class TheSameAsRun(unittest.TestCase):
             self.assertEqual(linked_run(order, 60000), ([42], "stop", 20))
 
     def test_40_texts(self):
-        texts = [rows("part p%02d" % number, "shared s%02d" % number, "wants s%02d" % (number + 1), "code s%02d" % number,
-                      "small %d" % number, "tell", "hop s%02d" % (number + 1), "stop") for number in range(39)]
-        texts[0] = rows("part p00", "shared main", "wants s01", "code main", "small 0", "tell", "hop s01", "stop")
-        texts.append(rows("part p39", "shared s39", "code s39", "back"))
-        self.assertEqual(walked(texts), (list(range(39)), "stop", 39 * 3 + 1))
+        texts = [rows("part p%02d" % number, "shared s%02d" % number, "code s%02d" % number, "small %d" % number, "tell",
+                      "back") for number in range(39)]
+        names = ["s%02d" % number for number in range(39)]
+        texts.append(rows("part p39", "shared main", *["wants " + name for name in names], "code main",
+                          *["call " + name for name in names], "stop"))
+        self.assertEqual(walked(texts), (list(range(39)), "stop", 39 * 4 + 1))
         self.assertEqual(walked(texts), linked_run(texts))
+
+    def test_hops_wait_through_several_parts(self):
+        for count, end in [(15, "stop"), (16, "stop"), (17, "deep")]:
+            texts = [rows("part p%02d" % number, "shared s%02d" % number, "wants s%02d" % (number + 1),
+                          "code s%02d" % number, "small %d" % number, "tell", "hop s%02d" % (number + 1),
+                          "small %d" % (100 + number), "tell", "back") for number in range(count)]
+            texts[0] = texts[0].replace("s00", "main")
+            texts.append(rows("part p%02d" % count, "shared s%02d" % count, "code s%02d" % count, "back"))
+            down = list(range(count))
+            up = [100 + number for number in reversed(down)] if end == "stop" else []
+            steps = 3 * count + 1 + 3 * count if end == "stop" else 3 * 17
+            self.assertEqual(walked(texts), (down + up, end, steps))
+            self.assertEqual(linked_run(texts, 700), (down + up, end, steps))
+
+    def test_back_goes_on_behind_a_hop(self):
+        text = main_of("hop low", "small 8", "tell", "stop", more=("code low", "small 7", "tell", "back"))
+        self.assertEqual(walked([text]), ([7, 8], "stop", 7))
+        self.assertEqual(walked([main_of("hop main", "stop")], [1], 36), ([], "deep", 17))
+        self.assertEqual(walked([main_of("hop main", "stop")], None, 16), ([], "dry", 16))
 
     def test_what_is_handed_in_stays_and_what_is_told_is_new(self):
         texts = [main_of("ask", "tell", "small 0", "ask", "put d", "small 0", "take d", "tell", "stop", more=DATA)]
@@ -128,10 +150,13 @@ class Refusals(unittest.TestCase):
         self.assertTrue(len(texts) == len(before) and all(one is other for one, other in zip(texts, before)))
 
     def test_as_assembled(self):
-        for thing in NO_TEXTS + ["", "\n" * 600, "part\ta"]:
+        for thing in NO_TEXTS + ["\n" * 600, "part\ta"]:
             self.refuse(("BadText",), [thing])
             self.refuse(("BadText",), [GOOD, thing])
         self.refuse(("BadRow", "", 1), ["nothing"])
+        for text, line in [("", 1), (" ", 1), ("\n", 2)]:
+            self.refuse(("BadRow", "", line), [text])
+            self.refuse(("BadRow", "", line), [GOOD, text])
         self.refuse(("BadRow", "b", 3), [GOOD, rows("part b", "code c", "nothing")])
         self.refuse(("Twice", "b", 4, "c"), [GOOD, rows("part b", "code c", "stop", "code c", "stop")])
         self.refuse(("Lacking", "b", 3, "l"), [GOOD, rows("part b", "code c", "go l")])

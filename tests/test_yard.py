@@ -12,7 +12,8 @@ MAIN = rows("part one", "shared main", "wants twice", "code main", "ask", "call 
 TWICE = rows("part math", "shared twice", "code twice", "dup", "add", "back")
 THRICE = rows("part math", "shared twice", "code twice", "dup", "dup", "add", "add", "back")
 ALONE = rows("part alone", "shared main", "code main", "small 5", "tell", "stop")
-BAD_TEXTS = [(rows("part b"), ("BadRow", "b", 1)), ("nothing", ("BadRow", "", 1)), ("", ("BadText",)),
+BAD_TEXTS = [(rows("part b"), ("BadRow", "b", 1)), ("nothing", ("BadRow", "", 1)), ("", ("BadRow", "", 1)),
+             ("\n", ("BadRow", "", 2)), ("\n" * 600, ("BadText",)), ("part\tb", ("BadText",)),
              (rows("part b", "code c", "stop", "code c", "stop"), ("Twice", "b", 4, "c")),
              (rows("part one", "code c", "call d", "stop"), ("Lacking", "one", 3, "d")),
              (rows("part b", "code c", "go l", *["push 1"] * 50, "at l", "stop"), ("TooFar", "b", 3, "l"))]
@@ -266,7 +267,7 @@ class WhatWasLinkedLast(unittest.TestCase):
 
     def test_most_that_is_left_out(self):
         yard = Yard()
-        yard.put(rows("part a", "shared main", "code main", "hop main", "stop"))
+        yard.put(rows("part a", "shared main", "code main", "at l", "go l"))
         yard.link()
         self.assertEqual(yard.run(), ([], "dry", 1000))
 
